@@ -71,7 +71,12 @@ func engine(list ...api.Entry) *index.Engine {
 }
 
 // asked tells a question.
-func asked(ask any) string { return fmt.Sprintf("%.300s", fmt.Sprintf("%T %+q", ask, ask)) }
+func asked(ask any) string {
+	if q, ok := ask.(api.TokenAsk); ok {
+		return fmt.Sprintf("%.300s", fmt.Sprintf("from %d to %d %+q", q.From, q.To, q.All))
+	}
+	return fmt.Sprintf("%.300s", fmt.Sprintf("%T %v", ask, ask))
+}
 
 // asks asks whether an engine answers those, and that; else its test ends, since what is wrong is wrong of many questions.
 func asks(t *testing.T, g *index.Engine, ask any, after api.Mark, desc bool, n int, want []api.Entry, all bool) {
